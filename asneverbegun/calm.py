@@ -1,0 +1,48 @@
+"""Papers of calm: lots of posts that show, step by step, that a harm is never met."""
+
+from asneverbegun.errors import InvalidHarm
+from asneverbegun.events import is_harm
+from asneverbegun.posts import PostForm, post_of, state_of
+from asneverbegun.trails import ALL_KINDS, Trails
+from asneverbegun.walker import Walker
+
+CALM_HARMS = ("again", "unlike", "loose", "astray")
+
+
+def calm_paper(system, harm):
+    """Returns a calm paper for a harm, or None if there is none."""
+    if not is_harm(harm, CALM_HARMS):
+        raise InvalidHarm()
+    walker = Walker(system, False)
+    trails = Trails(walker, ALL_KINDS, (harm,))
+    if harm in trails.found:
+        return None
+    posts = {}
+    for state in trails.ways:
+        posts[post_of(walker.chart, state)] = True
+    return tuple(list(posts))
+
+
+def calm_holds(system, harm, value):
+    """Tells whether any value is a calm paper for a harm."""
+    if not is_harm(harm, CALM_HARMS):
+        raise InvalidHarm()
+    form = PostForm(system)
+    if not isinstance(value, tuple) or not all([form.fits(post) for post in value]):
+        return False
+    walker = Walker(system, False)
+    posts = {post: True for post in value}
+    starts = [post_of(walker.chart, state) for state, _ in walker.beginnings()]
+    if not all([post in posts for post in starts]):
+        return False
+    return all([_holds_at(walker, harm, posts, post) for post in posts])
+
+
+def _holds_at(walker, harm, posts, post):
+    """Tells whether no step from a post meets the harm, or leads out of the paper."""
+    for _, _, harms, behind, _ in walker.steps(state_of(walker.chart, post)):
+        if harm in harms:
+            return False
+        if behind is not None and post_of(walker.chart, behind) not in posts:
+            return False
+    return True

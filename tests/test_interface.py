@@ -1,0 +1,78 @@
+"""The interface as the document lists it: names, parameters, defaults, and where they are defined."""
+
+import importlib
+import inspect
+import unittest
+
+FUNCTIONS = {
+    "worlds": {"done": "world, scene, name, old=()", "told": "world, name, answer"},
+    "plans": {"stand": "plan, log"},
+    "stage": {"play": "system, start, edition, events"},
+    "harms": {
+        "happens": "system, harm", "harms": "system", "sound": "system", "story": "system, harm", "meets": "system, harm",
+    },
+    "calm": {"calm_paper": "system, harm", "calm_holds": "system, harm, value"},
+    "gears": {
+        "enough": "system, at, gear", "least_gears": "system", "needless": "system", "joints": "system",
+        "stops": "system, table", "stopped": "system, table", "least_tables": "system", "with_table": "system, table",
+    },
+}
+CLASSES = {
+    "worlds": {
+        "Deed": {"__init__": "self, name, needs=(), sets=(), tells=()", "read": "text", "__eq__": None, "__str__": None},
+        "World": {"__init__": "self, cells, deeds", "deed": "self, name", "scenes": "self"},
+    },
+    "plans": {
+        "Plan": {
+            "__init__": "self, lines", "read": "text", "__eq__": None, "__str__": None, "__len__": None,
+            "deed": "self, at", "opposite": "self, at", "gear": "self, at", "with_gear": "self, at, gear",
+        },
+    },
+    "systems": {
+        "System": {
+            "__init__": "self, world, editions, starts, street=(), tags=()", "read": "text", "__eq__": None,
+            "__str__": None, "with_editions": "self, editions", "with_street": "self, street", "with_tags": "self, tags",
+            "with_gears": "self, edition, gears",
+        },
+    },
+    "stage": {"Played": {}},
+}
+
+
+def module(name):
+    return importlib.import_module("asneverbegun." + name)
+
+
+def parameters(function):
+    return str(inspect.signature(function))[1:-1]
+
+
+class InterfaceTest(unittest.TestCase):
+    def test_functions(self):
+        for name, functions in FUNCTIONS.items():
+            for word, wanted in functions.items():
+                function = getattr(module(name), word)
+                self.assertEqual(function.__module__, "asneverbegun." + name)
+                self.assertEqual(parameters(function), wanted, word)
+
+    def test_classes(self):
+        for name, classes in CLASSES.items():
+            for word, methods in classes.items():
+                made = getattr(module(name), word)
+                self.assertEqual(made.__module__, "asneverbegun." + name)
+                for method, wanted in methods.items():
+                    self.assertIn(method, vars(made), word)
+                    if wanted is not None:
+                        self.assertEqual(parameters(getattr(made, method)), wanted, (word, method))
+
+    def test_class_methods(self):
+        for name, word in (("worlds", "Deed"), ("plans", "Plan"), ("systems", "System")):
+            self.assertIsInstance(vars(getattr(module(name), word))["read"], classmethod)
+
+    def test_only_a_docstring(self):
+        package = importlib.import_module("asneverbegun")
+        self.assertTrue(package.__doc__)
+
+
+if __name__ == "__main__":
+    unittest.main()
