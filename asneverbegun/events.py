@@ -35,4 +35,4 @@ def read_events(value):
 
 def is_harm(value, words=HARMS):
     """Tells whether any value is one of these words (of all harms, if none are told)."""
-    return isinstance(value, str) and value in words
+    return value in words

@@ -43,7 +43,7 @@ def _has_harms(system, there):
     """Tells whether just these harms happen."""
     others = [harm for harm in HARMS if harm not in there]
     trails = Trails(Walker(system, True), ALL_KINDS, others)
-    return not trails.has_wanted and sorted(trails.found) == there
+    return sorted(trails.found) == there
 
 
 def _with_edition(system, edition, plan):
@@ -80,11 +80,9 @@ def least_tables(system):
     rows = joints(system)
     if any([way == "lost" and not agree for _, _, _, _, way, agree in rows]):
         return ()
-    tables = [{}]
+    tables = [_with_keys({}, [row for row in rows if row[4] == "lost"])]
     for line in _lines(system):
         late = [row for row in rows if row[:2] == line and row[4] == "late"]
-        lost = [row for row in rows if row[:2] == line and row[4] == "lost"]
-        tables = [_with_keys(words, lost) for words in tables]
         if late:
             claims = [_with_word(words, line, "claim") for words in tables]
             is_either = all([agree for _, _, _, _, _, agree in late])

@@ -61,7 +61,7 @@ class PostForm:
 
     def _is_pair(self, value):
         """Tells whether any value is a pair of an ask and an answer."""
-        if not is_tuple(value, 2) or not self._is_ask(value[0]) or not isinstance(value[1], str):
+        if not is_tuple(value, 2) or not self._is_ask(value[0]):
             return False
         return value[1] == "no" or is_ok_answer(self.system.world, deed_of(value[0]), value[1])
 

@@ -82,7 +82,7 @@ def behind(forms, stand, entry):
         return None
     word, answer = split_entry(entry)
     kind, text, at, _ = next_thing(forms, stand)
-    if kind == "over" or text != word:
+    if text != word:
         return None
     if kind == "write":
         return _behind_written(forms, stand, entry)

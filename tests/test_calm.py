@@ -177,7 +177,7 @@ class FormTest(unittest.TestCase):
 
     def test_scenes_editions_and_bools(self):
         for wrong in (dict(scene=(3,)), dict(scene=[0]), dict(scene=(False,)), dict(scene=(0, 0)), dict(scene=()),
-                      dict(edition=False), dict(edition=2), dict(edition=-1), dict(edition=None), dict(is_open=0),
+                      dict(edition=False), dict(edition=2), dict(edition=2, stands=(None, None)), dict(edition=-1), dict(edition=None), dict(is_open=0),
                       dict(is_torn=1), dict(is_torn=None), dict(is_open=None), dict(edition="0")):
             self.assertFalse(self.fits(self.post(**wrong)), wrong)
         self.assertTrue(self.fits(self.post(scene=(2,), is_torn=True)))
@@ -369,6 +369,10 @@ class StepsTest(unittest.TestCase):
         known = (("add", ()), "no")
         post = ((1,), 0, self.first, False, pair, None, (known, pair), True, late)
         self.assertIn(("write", ((1,), 0, behind, False, None, None, (), True, None)), self.steps(self.system, post))
+        keyless = (("add", ()), ("ahead",), "here")
+        post = ((1,), 0, self.first, False, pair, None, (known, pair), True, keyless)
+        self.assertIn(("write", ((1,), 0, behind, False, None, None, (), True, (("add", ()), ("ahead",), "deed"))),
+                      self.steps(self.system, post))
         post = ((1,), 0, self.first, False, pair, (("put", ()), "ok 0"), (), True, late)
         self.assertIn(("write", "unlike"), self.steps(self.system, post))
         post = ((1,), 0, self.first, False, pair, known, (), True, late)

@@ -78,6 +78,13 @@ class EnoughTest(unittest.TestCase):
         plan = plan.with_street(["clr"])
         self.assertEqual(least_gears(plan), (("key",), ("key",), (), ("key",)))
 
+    def test_only_first_harms_count(self):
+        # The first deed can only come again behind its opposite, and ahead of that the work is stuck.
+        deeds = "put: a to 1; clr: a to 0; pay: b to 1; bad: needs b 0, b to 0"
+        plan = made("a 2, b 2", deeds, "do put undo clr/do pay undo bad/back")
+        self.assertEqual(least_gears(plan), ((), ()))
+        self.assertEqual((joints(plan), least_tables(plan)), ((), ((((), ()),),)))
+
     def test_lines_that_are_never_come_to(self):
         self.assertEqual(least_gears(made("m 3", "pay: m by 1", "end/do pay")), ((),))
         self.assertEqual(least_gears(made("m 3", "pay: m by 1", "end")), ())
@@ -189,6 +196,9 @@ class JointsTest(unittest.TestCase):
         wanted = {joint for joint in joints(plan) if joint[0] == joint[2]}
         self.assertTrue(wanted < set(joints(plan)))
         self.assertEqual(set(stopped(plan, ((("key",),), ((),)))) & wanted, {row for row in wanted if row[0] == 0})
+        crossing = set(joints(plan)) - wanted
+        for table in (((("key",),), ((),)), (((),), (("key",),))):
+            self.assertFalse(set(stopped(plan, table)) & crossing)
         self.assertTrue(stops(plan, ((("key",),), (("key",),))))
         self.assertEqual(least_tables(plan), (((("key",),), (("key",),)),))
 
