@@ -11,7 +11,7 @@ def enough(system, at, gear):
     """Tells whether no first "again" or "unlike" is met at a place of a line if it has this gear."""
     geared = system.with_editions([system.editions[0].with_gear(at, gear)])
     trails = Trails(Walker(geared, True, at), ALL_KINDS, ("again", "unlike"))
-    return not trails.has_wanted
+    return not any([harm in trails.found for harm in ("again", "unlike")])
 
 
 def least_gears(system):

@@ -66,7 +66,7 @@ class PostForm:
         return value[1] == "no" or is_ok_answer(self.system.world, deed_of(value[0]), value[1])
 
     def _is_ask(self, value):
-        if not is_tuple(value, 2) or not isinstance(value[0], str) or value[0] not in self.words:
+        if not is_tuple(value, 2) or value[0] not in self.words:
             return False
         word, old = value
         if not isinstance(old, tuple) or not all([self._is_told(pair) for pair in old]):

@@ -32,7 +32,8 @@ class Trails:
             if used & kinds == used:
                 for harm in harms:
                     self.found.setdefault(harm, (state, label))
-                    self.has_wanted = self.has_wanted or harm in self.wanted
+                    if harm in self.wanted:
+                        self.has_wanted = True
                 if behind is not None and behind not in self.ways:
                     self.ways[behind] = (state, label)
                     queue.append(behind)

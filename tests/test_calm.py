@@ -177,7 +177,8 @@ class FormTest(unittest.TestCase):
 
     def test_scenes_editions_and_bools(self):
         for wrong in (dict(scene=(3,)), dict(scene=[0]), dict(scene=(False,)), dict(scene=(0, 0)), dict(scene=()),
-                      dict(edition=False), dict(edition=2), dict(edition=2, stands=(None, None)), dict(edition=-1), dict(edition=None), dict(is_open=0),
+                      dict(edition=False), dict(edition=2), dict(edition=2, stands=(None, None)),
+                      dict(edition=-1), dict(edition=None), dict(is_open=0),
                       dict(is_torn=1), dict(is_torn=None), dict(is_open=None), dict(edition="0")):
             self.assertFalse(self.fits(self.post(**wrong)), wrong)
         self.assertTrue(self.fits(self.post(scene=(2,), is_torn=True)))

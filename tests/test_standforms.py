@@ -39,6 +39,13 @@ class StandFormTest(unittest.TestCase):
         self.assertTrue(is_stand_form(SYSTEM, 1, (1, False, False, ())))
         self.assertFalse(is_stand_form(SYSTEM, 1, (2, False, False, ())))
 
+    def test_stacks(self):
+        self.assertTrue(self.fits(0, False, False, STACK * 2))
+        for row in ((5, "rest", "ok 2"), (-1, "rest", "ok 2"), (3, "rest", "ok 2"), (4, "rest", "ok 2"), (0, "rest", "no"),
+                    (0, "rest"), (0, None, "ok 2"), (4, None, "ok 2"), (0, "none", "ok"), ("0", "rest", "ok 2")):
+            self.assertFalse(self.fits(0, False, False, (row,)), row)
+            self.assertFalse(self.fits(0, False, False, STACK + (row,)), row)
+
     def test_taking_back(self):
         for line in (-1, 3):
             self.assertTrue(self.fits(line, True, False, STACK))

@@ -93,7 +93,8 @@ class DeedTest(unittest.TestCase):
                          "deed x: needs a 0, a to 1, c back, tells a, tells b")
 
     def test_read_anything_else(self):
-        for text in ("", "deed", "deed a", "deed a:", "deed a: ", "deed a:  nothing", "deed key: nothing", "a: nothing",
+        for text in ("", "deed", "deed a", "deed a:", "deed a: ", "deed a:  nothing", "deed key: nothing",
+                     "a: nothing", "died a: nothing",
                      "deed a: nothing, tells a", "deed a: b to 01", "deed a: b to 10000", "deed a: b to +1",
                      "deed a: b by 0", "deed a: b back 0", "deed a: b up 1", "deed a: b to 1,c to 1", "deed a: b  to 1",
                      "deed a: b to 1, b to 1", "deed a: tells b, tells b", "deed a: needs b 1, needs b 2",
