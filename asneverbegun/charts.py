@@ -12,9 +12,15 @@ from asneverbegun.reading import behind, cut_stand, first_stand, next_thing
 class Roll:
     """Things that are numbered as they come."""
 
-    def __init__(self):
+    def __init__(self, things=()):
         self.rows = []
         self.numbers = {}
+        self.take(things)
+
+    def take(self, things):
+        """Gives numbers to those of these things that are new."""
+        for thing in things:
+            self.number(thing)
 
     def number(self, thing):
         """Returns the number of a thing, which may be new."""
@@ -38,6 +44,7 @@ class Chart:
         self.stands = Roll()
         self.things = []
         self.nodes = Roll()
+        self.behind_stands = {}
         self.behind_nodes = {}
         self.narrow_nodes = {}
         self.needs_shade = {}
@@ -68,6 +75,24 @@ class Chart:
                 self.things.append((kind, text))
         return number
 
+    def stand_behind(self, number, entry):
+        """Returns the number of the stand behind one more closed entry (not `cut K`), -1 if it is not read."""
+        if number == -1:
+            return -1
+        key = (number, entry)
+        if key not in self.behind_stands:
+            edition, stand = self.stands.rows[number]
+            self.behind_stands[key] = self.number_or_none(edition, behind(self.forms[edition], stand, entry))
+        return self.behind_stands[key]
+
+    def cut_number(self, edition, entry):
+        """Returns the number of the stand with a log that has an entry `cut K` alone, -1 if it is not read."""
+        return self.number_or_none(edition, cut_stand(self.forms[edition], entry))
+
+    def number_or_none(self, edition, stand):
+        """Returns the number of a stand of an edition, -1 for None."""
+        return -1 if stand is None else self.stand_number(edition, stand)
+
     def first_node(self, edition):
         """Returns the node with the empty log, for a host of an edition."""
         stands = [first_stand(forms) for forms in self.forms]
@@ -75,11 +100,11 @@ class Chart:
 
     def node_number(self, stands, edition):
         """Returns the node of stands (None where nothing is read), of which those of elder editions are left out."""
-        row = [-1] * len(stands)
-        for at, stand in enumerate(stands):
-            if at >= edition and stand is not None:
-                row[at] = self.stand_number(at, stand)
-        return self.nodes.number(tuple(row))
+        numbers = [self.number_or_none(at, stand) for at, stand in enumerate(stands)]
+        return self._node_of(numbers, edition)
+
+    def _node_of(self, numbers, edition):
+        return self.nodes.number(tuple([-1 if at < edition else there for at, there in enumerate(numbers)]))
 
     def node_stands(self, node):
         """Returns the stands of a node, None where nothing is read."""
@@ -94,17 +119,11 @@ class Chart:
         key = (node, edition, entry)
         if key not in self.behind_nodes:
             if entry.startswith("cut "):
-                stands = [cut_stand(forms, entry) for forms in self.forms]
+                numbers = [self.cut_number(at, entry) for at in range(len(self.forms))]
             else:
-                stands = [self._stand_behind(at, entry) for at in self.nodes.rows[node]]
-            self.behind_nodes[key] = self.node_number(stands, edition)
+                numbers = [self.stand_behind(at, entry) for at in self.nodes.rows[node]]
+            self.behind_nodes[key] = self._node_of(numbers, edition)
         return self.behind_nodes[key]
-
-    def _stand_behind(self, number, entry):
-        if number == -1:
-            return None
-        edition, stand = self.stands.rows[number]
-        return behind(self.forms[edition], stand, entry)
 
     def narrowed(self, node, edition):
         """Returns the node for a host of a newer edition."""

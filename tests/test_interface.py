@@ -16,6 +16,26 @@ FUNCTIONS = {
         "enough": "system, at, gear", "least_gears": "system", "needless": "system", "joints": "system",
         "stops": "system, table", "stopped": "system, table", "least_tables": "system", "with_table": "system, table",
     },
+    "mending": {
+        "changes": "system", "changed": "system, lot", "hits": "system, harm, story, lot", "mends": "system, wanted",
+    },
+    "opposites": {
+        "pairs": "system, edition, at", "clean": "system, edition, at", "faults": "system, edition, at",
+        "bars": "system, edition, at", "clean_paper": "system, edition, at",
+        "clean_holds": "system, edition, at, value",
+    },
+    "pivots": {
+        "sure_lines": "system, edition", "backed": "system, edition", "firm": "system, edition",
+        "pivots": "system, edition",
+    },
+    "peels": {
+        "layers": "system, edition, scene, stand", "left_paper": "system, edition",
+        "left_holds": "system, edition, value", "hidden": "system, edition",
+    },
+    "editions": {
+        "reads": "system", "parting": "system", "mixed": "system", "reading_paper": "system",
+        "reading_holds": "system, value", "ahead_lines": "system", "estranged": "system",
+    },
 }
 CLASSES = {
     "worlds": {

@@ -273,7 +273,9 @@ class LanguageTest(unittest.TestCase):
             for inner in ast.walk(ast.Module(body=node.body, type_ignores=[])):
                 if isinstance(inner, ast.Call) and isinstance(inner.func, ast.Attribute):
                     if inner.func.attr in ("append", "extend", "pop", "setdefault", "insert", "remove", "clear", "update"):
-                        self.assertNotIn(ast.unparse(inner.func.value), over.replace("(", " ").split(), place)
+                        if isinstance(inner.func.value, ast.Name):
+                            names = {row.id for row in ast.walk(node.iter) if isinstance(row, ast.Name)}
+                            self.assertNotIn(inner.func.value.id, names, place)
                         if isinstance(inner.func.value, ast.Attribute):
                             self.assertNotIn("." + inner.func.value.attr, over, place)
                 if isinstance(inner, ast.Subscript) and isinstance(inner.ctx, ast.Store):
