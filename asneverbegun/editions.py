@@ -1,8 +1,9 @@
 """Two editions, an elder one and a newer one: what the newer one reads, and what it does otherwise."""
 
 from asneverbegun.alongside import Alongside
-from asneverbegun.asks import ask_of, asked, is_undoing
+from asneverbegun.asks import is_undoing
 from asneverbegun.basics import is_tuple
+from asneverbegun.entering import is_opening, next_entry, opened
 from asneverbegun.opposites import fault_of, pairs
 from asneverbegun.reading import behind, cut_stand, first_stand, next_thing
 from asneverbegun.standforms import is_stand_form
@@ -144,25 +145,14 @@ def _led_to(system, triple):
     scene, elder, newer = triple
     rows = [(done(system.world, scene, name)[1], elder, newer) for name in system.street]
     forms, others = system.editions[0].forms, system.editions[1].forms
-    thing = next_thing(forms, elder)
-    kind, text, at, _ = thing
-    if kind == "over":
-        return rows
-    if kind == "write" and text.startswith("cut "):
-        rows.append((scene, cut_stand(forms, text), cut_stand(others, text)))
-        return rows
-    is_open = elder[2]
-    if is_open:
-        elder, newer = _unopened(elder), _unopened(newer)
-    entry = text
-    if kind == "ask" and "ahead" in forms[at][3] and not is_open:
-        entry = text + " ?"
-    elif kind == "ask":
-        answer, scene = asked(system.world, scene, ask_of(system.world, forms, thing))
-        entry = text + " " + answer
-    rows.append((scene, behind(forms, elder, entry), behind(others, newer, entry)))
+    if is_opening(forms, elder):
+        entry = next_thing(forms, elder)[1] + " ?"
+        return rows + [(scene, opened(elder, True), behind(others, newer, entry))]
+    if elder[2]:
+        elder, newer = opened(elder, False), opened(newer, False)
+    found = next_entry(system.world, forms, scene, elder)
+    if found is not None:
+        entry, there, beyond = found
+        is_new = entry.startswith("cut ")
+        rows.append((there, beyond, cut_stand(others, entry) if is_new else behind(others, newer, entry)))
     return rows
-
-
-def _unopened(stand):
-    return (*stand[:2], False, stand[3])

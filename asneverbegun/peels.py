@@ -1,11 +1,11 @@
 """Peels: what taking back comes to, told layer by layer, and papers that a work is never left half done."""
 
-from asneverbegun.asks import ask_of, asked
 from asneverbegun.basics import is_tuple
 from asneverbegun.charts import Roll
+from asneverbegun.entering import next_entry
 from asneverbegun.opposites import clean
 from asneverbegun.pivots import backed
-from asneverbegun.reading import behind, cut_stand, first_stand, next_thing
+from asneverbegun.reading import first_stand
 from asneverbegun.standforms import is_stand_form
 from asneverbegun.worlds import done, is_scene, told
 
@@ -68,22 +68,15 @@ def _led_to(system, edition, triple):
     rows = []
     for name in system.street:
         rows.append((done(system.world, scene, name)[1], done(system.world, shade, name)[1], current))
-    forms = system.editions[edition].forms
-    thing = next_thing(forms, current)
-    if thing[0] == "over":
+    found = next_entry(system.world, system.editions[edition].forms, scene, current)
+    if found is None:
         return rows
-    if thing[0] == "write":
-        entry = thing[1]
-        if entry == "gone" and scene != shade:
-            return None
-        is_new = entry.startswith("cut ")
-        beyond = cut_stand(forms, entry) if is_new else behind(forms, current, entry)
-        rows.append((scene, scene if is_new or entry == "sure" else shade, beyond))
-        return rows
-    answer, there = asked(system.world, scene, ask_of(system.world, forms, thing))
-    if answer == "no" and thing[3] is not None:
+    entry, there, beyond = found
+    if entry.startswith("undo ") and entry.endswith(" no") or entry == "gone" and scene != shade:
         return None
-    rows.append((there, shade, behind(forms, current, thing[1] + " " + answer)))
+    if entry == "sure" or entry.startswith("cut "):
+        shade = scene
+    rows.append((there, shade, beyond))
     return rows
 
 

@@ -21,8 +21,12 @@ class Played:
 
 def play(system, start, edition, events):
     """Plays a history: returns what there is at its end."""
+    return played_on(Work(system, start, edition), events)
+
+
+def played_on(work, events):
+    """Does all events of any value on a work: returns what there is at the end."""
     rows = read_events(events)
-    work = Work(system, start, edition)
     met = []
     for at, (kind, what) in enumerate(rows):
         if not work.can(kind, what):

@@ -18,11 +18,14 @@ class Work:
     """A work with its world: scene, shade, log, hosts, and what is remembered and noted.
 
     A place is a pair (number of cuts, number in the log). For each place `marks` has the pair (ask, answer)
-    of the doing that changed the scene first, and `closed` whether its closed entry is that of a deed.
+    of the doing that changed the scene first, and `closed` whether its closed entry is that of a deed. `doings` has
+    a tuple (place, ask, answer, whether the scene was changed) for each doing, in order. `limit` is the memory: the
+    greatest age of a place for which something is remembered, or None.
     """
 
-    def __init__(self, system, start, edition):
+    def __init__(self, system, start, edition, limit=None):
         self.system = system
+        self.limit = limit
         self.scene = start
         self.shade = start
         self.is_noticed = False
@@ -35,6 +38,8 @@ class Work:
         self.memory = {}
         self.marks = {}
         self.closed = {}
+        self.doings = []
+        self.entries_ahead = [0]
 
     def can(self, kind, what):
         """Tells whether an event is possible."""
@@ -77,10 +82,16 @@ class Work:
         """Returns the next place of the log (that of the open entry, if there is one)."""
         return (self.cuts, len(self.log) - 1 if self.is_open() else len(self.log))
 
+    def age(self, place):
+        """Returns the number of the closed entries at a place and behind it."""
+        cuts, number = place
+        size = len(self.log) - 1 if self.is_open() else len(self.log)
+        return max(0, self.entries_ahead[-1] + size - self.entries_ahead[cuts] - number)
+
     def _forms(self):
         return self.system.editions[self.edition].forms
 
-    def _ask(self):
+    def present_ask(self):
         """Returns what the present host asks next, or None."""
         thing = self.thing()
         return ask_of(self.system.world, self._forms(), thing) if thing[0] == "ask" else None
@@ -97,7 +108,7 @@ class Work:
     def _take_over(self, edition, found):
         thing = self.thing()
         if self.held is None and thing[0] == "ask" and not self._is_opening(thing):
-            self.pending.append(Pending(self._ask(), self._forms()[thing[2]][3], self.next_place()))
+            self.pending.append(Pending(self.present_ask(), self._forms()[thing[2]][3], self.next_place()))
         self.held = None
         self.edition = edition
         self.stand = stand_of(self._forms(), self.log)
@@ -116,19 +127,20 @@ class Work:
         if self._is_opening(thing):
             self._write_open(found)
         elif thing[0] == "ask":
-            self.held = self._answer(self._ask(), self._forms()[thing[2]][3], self.next_place(), True, found)
+            self.held = self._answer(self.present_ask(), self._forms()[thing[2]][3], self.next_place(), True, found)
         else:
             self._write_plain(thing[1], found)
 
     def _answer(self, ask, gear, place, is_present, found):
         """Returns the answer of the world to what is asked for a place, by a line with this gear."""
         key = self._key(ask, place)
-        if "key" in gear and key in self.memory:
+        if "key" in gear and self._is_remembered(key):
             cuts, known, answer = self.memory[key]
             if is_present and (cuts, known) != (place[0], ask):
                 found.append("stale")
             return answer
         answer, scene = asked(self.system.world, self.scene, ask)
+        self.doings.append((place, ask, answer, scene != self.scene))
         if scene != self.scene:
             self._note_change(ask, answer, place, found)
         self.scene = scene
@@ -140,6 +152,11 @@ class Work:
         tags = self.system.tags
         return (place[1], place[0] if "cut" in tags else None, ask if "word" in tags else None)
 
+    def _is_remembered(self, key):
+        if key not in self.memory:
+            return False
+        return self.limit is None or self.age((self.memory[key][0], key[0])) <= self.limit
+
     def _note_change(self, ask, answer, place, found):
         """Notes that a doing for a place changes the scene."""
         if place in self.marks:
@@ -148,18 +165,18 @@ class Work:
         self.marks[place] = (ask, answer)
         if place in self.closed:
             found.append("unlike" if self.closed[place] else "loose")
-        elif self.is_open() and place == self.next_place() and self._ask() not in (None, ask):
+        elif self.is_open() and place == self.next_place() and self.present_ask() not in (None, ask):
             found.append("unlike")
 
     def _write_open(self, found):
-        ask = self._ask()
+        ask = self.present_ask()
         place = self.next_place()
         if place in self.marks and self.marks[place][0] != ask:
             found.append("unlike")
         self.log.append(ask[0] + " ?")
 
     def _write_answer(self, found):
-        ask, place = self._ask(), self.next_place()
+        ask, place = self.present_ask(), self.next_place()
         if place in self.marks and self.marks[place] != (ask, self.held):
             found.append("unlike")
         if is_undoing(ask) and self.held == "no":
@@ -185,6 +202,8 @@ class Work:
             found.append("noticed")
         self._write(entry)
         if entry.startswith("cut "):
+            # The cut is the place 0 of its new log, too, so it counts once.
+            self.entries_ahead.append(self.entries_ahead[-1] + len(self.log) - 1)
             self.cuts += 1
             self.log = [entry]
             self.stand = cut_stand(self._forms(), entry)

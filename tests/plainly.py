@@ -48,7 +48,7 @@ class Plainly:
             asked, entry = None, None
             if event == "next" and behind.held is not None:
                 asked = self.naive.present(state)[1:] + (behind.held,)
-            elif event != "street" and behind.log != state.log and not behind.log[-1].endswith("?"):
+            elif event in ("next", "write") and not behind.log[-1].endswith("?"):
                 entry = behind.log[-1]
             behind = behind._replace(pending=(), memory=(), marks=(), closed=(), cuts=0)
             rows.append(Edge(event, state, behind, asked, entry, met))
@@ -242,3 +242,53 @@ def reading_steps(system, triple, logs):
     if is_open:
         logs = [log[:-1] if log[-1:] and log[-1].endswith("?") else log for log in logs]
     return rows + [(scene, stand(plans[0], logs[0] + (entry,)), stand(plans[1], logs[1] + (entry,)))]
+
+
+def harmful_ages(plainly, at, most):
+    """The ages up to `most` at which asking once more what a line asked changes the scene."""
+    found = set()
+    for asking in plainly.all_edges():
+        if not asking.asked or asking.asked[2] != at:
+            continue
+        word, old, _, _ = asking.asked
+        for state, age in ages_behind(plainly, asking, most):
+            if plainly.naive.doing(state.scene, word.split()[-1], old)[1] != state.scene:
+                found.add(age)
+    return tuple(sorted(found))
+
+
+def ages_behind(plainly, asking, most):
+    """All pairs of a state and the age that the place of an asking has there, from 1 to `most`."""
+    rows, found = [(asking.behind, 0)], set()
+    for state, age in rows:
+        for edge in plainly.edges[state]:
+            row = (edge.behind, age + (edge.entry is not None))
+            if row[1] <= most and row not in found:
+                found.add(row)
+                rows.append(row)
+    return {row for row in found if row[1] > 0}
+
+
+def nearest_age(system, plainly, most):
+    """The least age, up to `most`, of a place at which its key is used again in a later log, or None."""
+    def key_of(edge):
+        if not edge.asked or "key" not in system.editions[0].gear(edge.asked[2]):
+            return None
+        place = len([entry for entry in edge.ahead.log if not entry.endswith("?")])
+        return (place, edge.asked[:2] if "word" in system.tags else None)
+
+    ages = []
+    for asking in plainly.all_edges():
+        if key_of(asking) is None:
+            continue
+        rows, seen = [(asking.behind, 0, False)], set()
+        for state, age, is_later in rows:
+            for edge in plainly.edges[state]:
+                if is_later and key_of(edge) == key_of(asking):
+                    ages.append(age)
+                is_cut = edge.entry is not None and edge.entry.startswith("cut")
+                row = (edge.behind, age + (edge.entry is not None), is_later or is_cut)
+                if row[1] <= most and row not in seen:
+                    seen.add(row)
+                    rows.append(row)
+    return min(ages, default=None)

@@ -2,8 +2,9 @@
 
 import random
 
-from asneverbegun.errors import WorkError
+from asneverbegun.errors import Refused, WorkError
 from asneverbegun.plans import Plan
+from asneverbegun.stage import play
 from asneverbegun.systems import System
 from asneverbegun.worlds import Deed, World
 
@@ -169,3 +170,40 @@ def random_system(seed, style=None, size=3, editions=None, tags=None, cells=None
     if tags is None:
         tags = rng.choice([[], ["cut"], ["word"], ["cut", "word"], ["cut", "word"]])
     return System(world, plans, starts, street, tags)
+
+
+def random_history(rng, system, size, wild=1.0):
+    """A start, an edition and so many events that are possible; events that meet a harm are taken as `wild` tells.
+
+    Nothing comes behind an event that meets `stale`.
+    """
+    start, edition = rng.choice(system.starts), rng.randrange(len(system.editions))
+    events = []
+    while len(events) < size:
+        choices = possible(system, start, edition, events)
+        going = [event for event in choices if event in ("next", "write")]
+        late = [event for event in choices if event.startswith("late")]
+        event = rng.choice(choices + 3 * going + 2 * late) if choices else None
+        if event is None:
+            break
+        met = [harm for at, harm in play(system, start, edition, events + [event]).met if at == len(events)]
+        if not met or rng.random() < wild:
+            events.append(event)
+        if "stale" in met or met and rng.random() < 0.5:
+            break
+    return start, edition, events
+
+
+def possible(system, start, edition, events):
+    """All events that are possible behind others."""
+    choices = ["next", "write"] + ["over %d" % number for number in range(len(system.editions))]
+    choices += ["street " + name for name in system.street]
+    choices += ["late %d" % number for number in range(len(events))]
+    found = []
+    for event in choices:
+        try:
+            play(system, start, edition, events + [event])
+            found.append(event)
+        except Refused:
+            pass
+    return found

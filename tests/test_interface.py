@@ -36,6 +36,23 @@ FUNCTIONS = {
         "reads": "system", "parting": "system", "mixed": "system", "reading_paper": "system",
         "reading_holds": "system, value", "ahead_lines": "system", "estranged": "system",
     },
+    "ideals": {
+        "ideal": "system, start, edition, events", "seen_as_one": "system, start, edition, events, others",
+    },
+    "shown": {
+        "shown": "system, start, edition, events", "explained": "system, start, edition, row, log",
+        "accused": "system, start, edition, events",
+    },
+    "memories": {
+        "recall": "system, memory, start, edition, events", "late_ages": "system, at, most", "latest": "system, at",
+        "least_memory": "system", "nearest": "system", "greatest_memory": "system",
+        "age_paper": "system, at, memory", "age_holds": "system, at, memory, value",
+    },
+    "times": {
+        "lateness": "times", "can_stray": "times", "stray": "times", "stray_holds": "times, value",
+        "late_entries": "times", "least_lease": "hold, way, drift", "greatest_hold": "lease, way, drift",
+        "least_keeping": "times", "memory_under": "system, times", "gears_under": "system, times",
+    },
 }
 CLASSES = {
     "worlds": {
@@ -56,6 +73,7 @@ CLASSES = {
         },
     },
     "stage": {"Played": {}},
+    "times": {"Times": {"__init__": "self, lease, hold, way, entry, drift=(0, 1)", "__eq__": None}},
 }
 
 
