@@ -21,14 +21,12 @@ def parting(system):
     sides = Alongside(system)
     logs = {state: () for state in sides.beginning}
     rows = list(logs)
-    size = 0
     while rows:
         rows = _with_equal(sides, rows, logs)
         for state in rows:
             if not sides.is_read(state):
                 return logs[state]
-        rows = _with_more(sides, rows, logs, size == 0)
-        size += 1
+        rows = _with_more(sides, rows, logs)
     return None
 
 
@@ -104,15 +102,15 @@ def _with_equal(sides, rows, logs):
     return rows
 
 
-def _with_more(sides, rows, logs, is_first):
+def _with_more(sides, rows, logs):
     """Returns the states to which these lead by one more entry (at first also those behind cuts)."""
     found = []
-    if is_first:
-        for state in sides.behind_cuts:
-            _note(state, (sides.behind_cuts[state],), found, logs)
+    # A new log has one entry, wherever the elder one was cut.
+    for state in sides.behind_cuts:
+        _note(state, (sides.behind_cuts[state],), found, logs)
     for state in rows:
         entered = sides.entered(state)
-        if entered is not None and not state[3] and not entered[0].startswith("cut "):
+        if entered is not None:
             _note(entered[1], (*logs[state], entered[0]), found, logs)
     return found
 

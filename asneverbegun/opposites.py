@@ -41,7 +41,6 @@ def faults(system, edition, at):
 
 def bars(system, edition, at):
     """Returns the lot of the least lots of names in the street without which a line is clean."""
-    _check_line(system, edition, at)
     enough = []
     # The parts of a lot of names have lesser sums, so they come ahead of it.
     for names in range(1 << len(system.street)):

@@ -49,8 +49,8 @@ def _firm_lines(course):
 class Course:
     """What comes about in plain histories of an edition, entry by entry.
 
-    `entries` has a pair (state, next entry or None) for each state; `deeds` has, for each time that a deed of a
-    line is asked, a triple (line, first word of the answer, state behind the entry).
+    `entries` has a pair (state, next entry) for each state at which the work is not over; `deeds` has, for each time
+    that a deed of a line is asked, a triple (line, first word of the answer, state behind the entry).
     """
 
     def __init__(self, system, edition):
@@ -68,7 +68,6 @@ class Course:
         for there in self.runs.passed(state):
             self._note_way(state, there, True)
         if entered is None:
-            self.entries.append((state, None))
             return
         entry, asker, answer, behind = entered
         self.entries.append((state, entry))
@@ -99,6 +98,6 @@ class Course:
         return found.numbers
 
     def line_at(self, state):
-        """Returns the number of the line at which a host stands, None if the work is over or it takes back."""
+        """Returns the number of the line at which a host stands, None if it takes back."""
         line, is_back, _, _ = self.runs.stand_of(state)
-        return None if is_back or line == -1 else line
+        return None if is_back else line

@@ -283,6 +283,19 @@ class EstrangedTest(unittest.TestCase):
         # The open entry is not read, but the entry that comes in its place is.
         self.assertEqual(estranged(two("do pay ahead", "do pay")), ((0, 0),))
 
+    def test_a_log_that_is_not_read_though_its_line_is_met_elsewhere(self):
+        self.assertEqual(estranged(two("do none/do pay/cut k/go 0", "do zero/cut k/do pay/go 1")), ())
+
+    def test_a_deed_that_is_answered_no_at_one_of_two_lines(self):
+        # The newer edition reads `want no` by its line 0, and `want ok` by its line 3.
+        system = two("do want/do pay/cut k/go 0", "do want/do pay/cut k/do want undo none/do pay/go 2")
+        self.assertEqual(pairs(system, 0, 0), (((2,), (1,), "ok"),))
+        self.assertEqual(estranged(system), ((0, 3), (1, 1), (1, 4)))
+
+    def test_opposites_do_not_count(self):
+        # Both take back by `none`: what line 0 of the elder one did, and what line 1 of the newer one did.
+        self.assertEqual(estranged(two("do one undo none/do none/back", "do one/do none undo none/back")), ((0, 0),))
+
     def test_one_line_with_several(self):
         system = two("do pay/cut k/go 0", "do pay/cut k/do pay undo rest/go 1")
         self.assertEqual(estranged(system), ((0, 0),))

@@ -87,6 +87,21 @@ class IdealTest(unittest.TestCase):
         self.check(two, (0,), 0, events + ["next", "write", "next"])
         self.assertEqual(self.check(two, (0,), 0, ["next", "over 1"]), ("next",))
 
+    def test_an_open_entry_at_the_end(self):
+        two = made("m 3", DEEDS, "do pay", "do pay ahead")
+        self.assertEqual(self.check(two, (0,), 0, ["over 1", "next"]), ("over 1", "next"))
+        # It is opened by the edition that asks this word.
+        two = made("m 3", DEEDS, "do none/do low ahead", "do none/do pay ahead")
+        events = ["next", "write", "over 1", "next", "over 1"]
+        self.assertEqual(self.check(two, (0,), 0, events), tuple(events[:4]))
+        self.assertEqual(self.check(two, (0,), 0, events[:2] + ["next"]), tuple(events[:2] + ["next"]))
+
+    def test_three_editions(self):
+        system = made("m 3", DEEDS, "do none/do pay", "do low", "do none/do pay ahead")
+        events = ["next", "write", "over 2", "next", "next", "over 2"]
+        self.assertEqual(self.check(system, (0,), 0, events), tuple(events[:5]))
+        self.assertEqual(self.check(system, (0,), 0, events[:4]), tuple(events[:4]))
+
     def test_the_one_who_asked_is_to_ask(self):
         # Both take back by `rev`, with other values; the elder one has done so, and its entry stays open.
         deeds = "look: tells b; put: a by 1, tells a; rev: a by 2"

@@ -170,6 +170,12 @@ class LateAgesTest(unittest.TestCase):
         self.check(made("m 3", DEEDS, "do want", street="put"), 0, (1, 2), 2)
         self.check(made("m 3", DEEDS, "do want"), 0, (), 0)
 
+    def test_a_street_that_goes_far(self):
+        # Only behind `set` the street goes on, deed by deed, until the first deed would change something.
+        deeds = "last: needs m 2, m to 0; set: b to 1; one: needs b 1, needs m 0, m to 1; two: needs b 1, needs m 1, m to 2"
+        self.check(made("m 3, b 2", deeds, "do last/do set", street="one two"), 0, (1, 2, 3), 3)
+        self.check(made("m 3, b 2", deeds, "do last/do set", street="two"), 0, (), 0)
+
     def test_opposites(self):
         self.check(made("m 3", DEEDS, "do put undo zero/back"), 0, (2, 3, 4), 4)
         self.check(made("m 3", DEEDS, "do none undo put/back"), 0, (), 0)
@@ -180,6 +186,7 @@ class LateAgesTest(unittest.TestCase):
 
     def test_no_greatest_one(self):
         self.check(made("m 3", DEEDS, "do pay/cut k/go 0"), 0, range(1, 10), None)
+        self.check(made("m 3", DEEDS, "do pay/cut k/go 1"), 0, range(1, 10), None)
         self.check(made("m 3", DEEDS, "do put/cut k/go 1"), 0, (), 0)
         self.check(made("m 3", DEEDS, "do none/cut k/go 0", street="pay"), 0, (), 0)
         # Only each second log is harmful.
@@ -257,8 +264,9 @@ class NearestTest(unittest.TestCase):
         self.assertEqual((nearest(ROUND), greatest_memory(ROUND), latest(ROUND, 0)), (2, 1, None))
         self.assertEqual(least_memory(ROUND.with_tags(["cut", "word"])), 0)
 
-    def check(self, plan, wanted, keys="word"):
-        system = made("m 3", DEEDS + "; low: m by 2", plan, keys=keys)
+    def check(self, plan, wanted, keys="word", street="-"):
+        deeds = "; low: m by 2; two: needs m 2, m to 0; up: m by 1"
+        system = made("m 3", DEEDS + deeds, plan, keys=keys, street=street)
         self.assertEqual(nearest(system), wanted)
         self.assertEqual(greatest_memory(system), None if wanted is None else wanted - 1)
 
@@ -285,6 +293,12 @@ class NearestTest(unittest.TestCase):
         self.check("do none/sure/sure/do low/cut k/do none undo zero key/back", None, keys="-")
         # An opposite that gets other values back is another word.
         self.check("do none/do pay undo rest key/cut k/do pay undo rest key/cut l/go 3", 2)
+
+    def test_the_street(self):
+        self.check("do want else 4/do pay key/cut k/do pay key", None)
+        self.check("do want else 4/do pay key/cut k/do pay key", 2, street="up")
+        self.check("do none/do put key/do two else 5/cut k/do put key", None)
+        self.check("do none/do put key/do two else 5/cut k/do put key", 3, street="up")
 
     def test_the_least_of_all(self):
         self.check("do none/do pay key/do none/cut k/do pay key/cut l/do pay key", 2)
@@ -355,6 +369,7 @@ class AgePaperTest(unittest.TestCase):
         self.assertIs(self.holds(*self.paper, ((2,), gone, "pay", None, 5)), True)
         self.assertIs(self.holds(*self.paper, ((2,), gone, "pay", None, 6)), False)
         self.assertIs(self.holds(*self.paper, ((2,), gone, "undo rest", "ok 2", 6)), True)
+        self.assertIs(self.holds(*self.paper, ((2,), gone, "undo rest", "ok 2", 7)), False)
         self.assertIs(self.holds(*self.paper, ((2,), gone, "undo rest", "ok 1", 6)), False)
         end = ((2,), (2, False, False, ()), "pay", None, 4)
         self.assertIs(self.holds(*self.paper, end), False)

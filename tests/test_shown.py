@@ -128,6 +128,8 @@ class ExplainedTest(unittest.TestCase):
         self.check(system, "0 1", ["cut k", "cut l"], None)
         self.check(system, "0 1", ["none ok", "cut l"], None)
         self.check(system, "0 1", ["cut m"], None)
+        self.check(system, "0 1", ["pay ok 0", "cut k"], None)
+        self.check(system, "0 1", ["cut k", "none ok", "cut l"], None)
 
     def test_editions(self):
         system = made("m 3", DEEDS, "do pay/do none", "do pay/do up", "do none")
