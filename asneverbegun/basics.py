@@ -54,3 +54,36 @@ def are_some_of(value, words):
 def is_lot_of(value, words):
     """Tells whether any value is a lot of these words."""
     return isinstance(value, tuple) and are_some_of(value, words) and list(value) == sorted(value)
+
+
+def lots_of(things):
+    """Returns all lots of these things (which are told ascending), those with fewer things first."""
+    rows = [()]
+    for thing in things:
+        rows = rows + [(*row, thing) for row in rows]
+    return sorted(rows, key=len)
+
+
+def is_part(lot, other):
+    """Tells whether all things of a lot are in another one."""
+    return all([thing in other for thing in lot])
+
+
+def digits_of(number):
+    """Returns the decimal digits of a number, as many as it has: Python itself bars very long ones."""
+    parts = []
+    rest = number
+    while rest >= 10 ** 64:
+        rest, part = divmod(rest, 10 ** 64)
+        parts.append(str(part).zfill(64))
+    parts.append(str(rest))
+    return "".join(parts[::-1])
+
+
+def number_of(digits):
+    """Returns the number with these decimal digits, however many."""
+    head = len(digits) - len(digits) // 64 * 64
+    number = int("0" + digits[:head])
+    for at in range(head, len(digits), 64):
+        number = number * 10 ** 64 + int(digits[at:at + 64])
+    return number

@@ -34,7 +34,7 @@ class Chart:
     """All that is numbered for a system, and what leads from one to the other."""
 
     def __init__(self, system):
-        self.system = system
+        self.of_system = system
         self.forms = [plan.forms for plan in system.editions]
         self.spots = system.world.scenes()
         self.spot_of = {scene: at for at, scene in enumerate(self.spots)}
@@ -54,7 +54,7 @@ class Chart:
         """Returns the number of an ask; `doings` has its answer and the scene behind it at each scene."""
         number = self.asks.number(ask)
         if number == len(self.doings):
-            rows = [asked(self.system.world, scene, ask) for scene in self.spots]
+            rows = [asked(self.of_system.world, scene, ask) for scene in self.spots]
             self.doings.append([(answer, self.spot_of[scene]) for answer, scene in rows])
         return number
 
@@ -69,7 +69,7 @@ class Chart:
             thing = next_thing(forms, stand)
             kind, text, at, _ = thing
             if kind == "ask":
-                ask = self.ask_number(ask_of(self.system.world, forms, thing))
+                ask = self.ask_number(ask_of(self.of_system.world, forms, thing))
                 self.things.append(("ask", self.askers.number((edition, at, ask, forms[at][3]))))
             else:
                 self.things.append((kind, text))

@@ -26,7 +26,7 @@ def ideal(system, start, edition, events):
         if at in account.written_at:
             follower.write(account.written_at[at])
     follower.close()
-    return tuple(follower.events)
+    return tuple(follower.told_events)
 
 
 def seen_as_one(system, start, edition, events, others):
@@ -85,12 +85,12 @@ class Follower:
     def __init__(self, work, log):
         self.work = work
         self.log = log
-        self.events = []
+        self.told_events = []
 
     def do(self, kind, what):
         """Does an event."""
         self.work.do(kind, what)
-        self.events.append(kind if what is None else f"{kind} {what}")
+        self.told_events.append(kind if what is None else f"{kind} {what}")
 
     def ask_by(self, row):
         """Asks by an edition, or, for (None, ask), by one that asks just this; an open entry comes first."""
@@ -122,7 +122,7 @@ class Follower:
 
     def _edition_for(self, ask, is_opening):
         """Returns the first edition that asks this next (None: what the log is to be left open for)."""
-        system = self.work.system
+        system = self.work.of_system
         for edition in range(self.work.edition, len(system.editions)):
             forms = system.editions[edition].forms
             current = stand_of(forms, self.work.log)

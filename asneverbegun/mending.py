@@ -65,13 +65,13 @@ class Mender:
     """Tells which lots of changes are enough; it keeps the stories that it finds, which they must hit ([31])."""
 
     def __init__(self, system, wanted):
-        self.system = system
+        self.of_system = system
         self.wanted = tuple(wanted)
         self.stories = []
 
     def is_enough(self, lot):
         """Tells whether none of the wanted harms happens with these changes."""
-        system = changed(self.system, lot)
+        system = changed(self.of_system, lot)
         if any([self._is_met(system, row) for row in self.stories]):
             return False
         trails = Trails(Walker(system, True), ALL_KINDS, self.wanted)

@@ -16,7 +16,7 @@ class PostForm:
     """Tells which values have the form of a post of a system."""
 
     def __init__(self, system):
-        self.system = system
+        self.of_system = system
         self.sizes = dict(system.world.cells)
         forms = [form for plan in system.editions for form in plan.forms if form[0] == "do"]
         opposites = ["undo " + form[2] for form in forms if form[2] is not None]
@@ -27,7 +27,7 @@ class PostForm:
         if not is_tuple(value, 9):
             return False
         scene, edition, stands, is_open, held, mark, memory, is_torn, late = value
-        if not is_scene(self.system.world, scene) or not isinstance(is_open, bool) or not isinstance(is_torn, bool):
+        if not is_scene(self.of_system.world, scene) or not isinstance(is_open, bool) or not isinstance(is_torn, bool):
             return False
         if not is_integer(edition) or not self._are_stands(stands, edition):
             return False
@@ -39,31 +39,31 @@ class PostForm:
         return (mark is None or self._is_pair(mark)) and self._is_memory(memory) and self._is_late(late)
 
     def _are_stands(self, value, edition):
-        if not 0 <= edition < len(self.system.editions) or not is_tuple(value, len(self.system.editions)):
+        if not 0 <= edition < len(self.of_system.editions) or not is_tuple(value, len(self.of_system.editions)):
             return False
         for at, stand in enumerate(value):
             if stand is None and at == edition or stand is not None and at < edition:
                 return False
-            if stand is not None and (not is_stand_form(self.system, at, stand) or stand[2]):
+            if stand is not None and (not is_stand_form(self.of_system, at, stand) or stand[2]):
                 return False
         return True
 
     def _next(self, stand, edition):
         """Returns what is next at a stand, and whether it is to write an open entry."""
-        forms = self.system.editions[edition].forms
+        forms = self.of_system.editions[edition].forms
         thing = next_thing(forms, stand)
         return (thing, thing[0] == "ask" and "ahead" in forms[thing[2]][3])
 
     def _is_held(self, value, edition, thing):
         if thing[0] != "ask" or not self._is_pair(value):
             return False
-        return value[0] == ask_of(self.system.world, self.system.editions[edition].forms, thing)
+        return value[0] == ask_of(self.of_system.world, self.of_system.editions[edition].forms, thing)
 
     def _is_pair(self, value):
         """Tells whether any value is a pair of an ask and an answer."""
         if not is_tuple(value, 2) or not self._is_ask(value[0]):
             return False
-        return value[1] == "no" or is_ok_answer(self.system.world, deed_of(value[0]), value[1])
+        return value[1] == "no" or is_ok_answer(self.of_system.world, deed_of(value[0]), value[1])
 
     def _is_ask(self, value):
         if not is_tuple(value, 2) or value[0] not in self.words:

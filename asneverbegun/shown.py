@@ -46,8 +46,8 @@ class Explainer:
         self.left_open = None
         if self.log and self.log[-1].endswith(" ?"):
             self.left_open = self.log.pop()
-        asks = [chart.ask_number((name, ())) for name in chart.system.street]
-        self.passing = [("street " + name, ask) for name, ask in zip(chart.system.street, asks)]
+        asks = [chart.ask_number((name, ())) for name in chart.of_system.street]
+        self.passing = [("street " + name, ask) for name, ask in zip(chart.of_system.street, asks)]
 
     def history(self, start, edition):
         """Returns the events of a history, or None if there is none."""

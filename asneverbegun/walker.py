@@ -53,7 +53,7 @@ class Walker:
     def beginnings(self):
         """Returns the pairs of a state at the beginning and (start, edition)."""
         rows = []
-        for start in self.chart.system.starts:
+        for start in self.chart.of_system.starts:
             for edition in range(len(self.chart.forms)):
                 spot, node = self.chart.spot_of[start], self.chart.first_node(edition)
                 shade = spot if self._has_shade(node, edition) else None

@@ -24,7 +24,7 @@ class Work:
     """
 
     def __init__(self, system, start, edition, limit=None):
-        self.system = system
+        self.of_system = system
         self.limit = limit
         self.scene = start
         self.shade = start
@@ -44,9 +44,9 @@ class Work:
     def can(self, kind, what):
         """Tells whether an event is possible."""
         if kind == "street":
-            return what in self.system.street
+            return what in self.of_system.street
         if kind == "over":
-            return self.edition <= what < len(self.system.editions)
+            return self.edition <= what < len(self.of_system.editions)
         if kind == "late":
             return what < len(self.pending) and not self.pending[what].is_asked
         if kind == "write":
@@ -57,7 +57,7 @@ class Work:
         """Does an event that is possible; returns the lot of the harms that it meets."""
         found = []
         if kind == "street":
-            self._do_street(what)
+            self.see((what, ()))
         elif kind == "over":
             self._take_over(what, found)
         elif kind == "late":
@@ -89,20 +89,21 @@ class Work:
         return max(0, self.entries_ahead[-1] + size - self.entries_ahead[cuts] - number)
 
     def _forms(self):
-        return self.system.editions[self.edition].forms
+        return self.of_system.editions[self.edition].forms
 
     def present_ask(self):
         """Returns what the present host asks next, or None."""
         thing = self.thing()
-        return ask_of(self.system.world, self._forms(), thing) if thing[0] == "ask" else None
+        return ask_of(self.of_system.world, self._forms(), thing) if thing[0] == "ask" else None
 
     def _is_opening(self, thing):
         """Tells whether the present host writes an open entry before it asks."""
         return thing[0] == "ask" and "ahead" in self._forms()[thing[2]][3] and not self.is_open()
 
-    def _do_street(self, name):
-        answer, self.scene = asked(self.system.world, self.scene, (name, ()))
-        other, self.shade = asked(self.system.world, self.shade, (name, ()))
+    def see(self, ask):
+        """Takes in what somebody else asks: it is done at the scene, and at the shade, too."""
+        answer, self.scene = asked(self.of_system.world, self.scene, ask)
+        other, self.shade = asked(self.of_system.world, self.shade, ask)
         self.is_noticed = self.is_noticed or answer != other
 
     def _take_over(self, edition, found):
@@ -139,7 +140,7 @@ class Work:
             if is_present and (cuts, known) != (place[0], ask):
                 found.append("stale")
             return answer
-        answer, scene = asked(self.system.world, self.scene, ask)
+        answer, scene = asked(self.of_system.world, self.scene, ask)
         self.doings.append((place, ask, answer, scene != self.scene))
         if scene != self.scene:
             self._note_change(ask, answer, place, found)
@@ -149,7 +150,7 @@ class Work:
         return answer
 
     def _key(self, ask, place):
-        tags = self.system.tags
+        tags = self.of_system.tags
         return (place[1], place[0] if "cut" in tags else None, ask if "word" in tags else None)
 
     def _is_remembered(self, key):

@@ -1,6 +1,8 @@
 """Deeds, worlds of cells, and what a deed does at a scene."""
 
-from asneverbegun.basics import are_different, is_integer, is_name, is_number, is_number_text, is_sequence, is_tuple
+from asneverbegun.basics import (
+    are_different, digits_of, is_integer, is_name, is_number, is_number_text, is_sequence, is_tuple
+)
 from asneverbegun.errors import InvalidDeed, InvalidScene, InvalidText, InvalidWorld, NoName
 
 
@@ -152,9 +154,9 @@ def _fits(deed, sizes):
 
 
 def _parts_text(deed):
-    parts = [f"needs {cell} {value}" for cell, value in deed.needs]
+    parts = [f"needs {cell} {digits_of(value)}" for cell, value in deed.needs]
     for cell, how, number in deed.sets:
-        parts.append(f"{cell} back" if how == "back" else f"{cell} {how} {number}")
+        parts.append(f"{cell} back" if how == "back" else f"{cell} {how} {digits_of(number)}")
     parts.extend([f"tells {cell}" for cell in deed.tells])
     return ", ".join(parts) if parts else "nothing"
 

@@ -53,6 +53,14 @@ FUNCTIONS = {
         "late_entries": "times", "least_lease": "hold, way, drift", "greatest_hold": "lease, way, drift",
         "least_keeping": "times", "memory_under": "system, times", "gears_under": "system, times",
     },
+    "crowds": {"crowd": "system", "streets": "system"},
+    "companies": {"woven": "company, start, rows", "front": "company, member"},
+    "quarrels": {
+        "quarrels": "company", "quarrel": "company, member, harm", "alarms": "company", "blame": "company, member, harm",
+        "calm_lots": "company", "rough": "company, member", "quiet_paper": "company, member",
+        "quiet_holds": "company, member, value",
+    },
+    "plainthings": {"plain_text": "value", "read_plain": "text"},
 }
 CLASSES = {
     "worlds": {
@@ -74,6 +82,7 @@ CLASSES = {
     },
     "stage": {"Played": {}},
     "times": {"Times": {"__init__": "self, lease, hold, way, entry, drift=(0, 1)", "__eq__": None}},
+    "companies": {"Company": {"__init__": "self, members", "bare": "self", "keyed": "self", "__len__": None, "__eq__": None}},
 }
 
 

@@ -34,7 +34,7 @@ NODES = (
     ast.Assign, ast.AugAssign, ast.Name, ast.Attribute, ast.Subscript, ast.Slice, ast.Call, ast.keyword, ast.Compare,
     ast.BoolOp, ast.UnaryOp, ast.BinOp, ast.IfExp, ast.Tuple, ast.List, ast.Dict, ast.ListComp, ast.DictComp,
     ast.comprehension, ast.Starred, ast.JoinedStr, ast.FormattedValue, ast.Load, ast.Store, ast.And, ast.Or, ast.Not,
-    ast.USub, ast.Add, ast.Sub, ast.Mult, ast.FloorDiv, ast.Mod, ast.LShift, ast.RShift, ast.BitAnd, ast.BitOr, ast.Eq,
+    ast.USub, ast.Add, ast.Sub, ast.Mult, ast.FloorDiv, ast.Mod, ast.Pow, ast.LShift, ast.RShift, ast.BitAnd, ast.BitOr, ast.Eq,
     ast.NotEq, ast.Lt, ast.LtE, ast.Gt, ast.GtE, ast.In, ast.NotIn, ast.Is, ast.IsNot,
 )
 
@@ -214,7 +214,8 @@ class LanguageTest(unittest.TestCase):
                 name = node.func.id
                 if name in dir(builtins):
                     self.assertIn(name, NAMED, place)
-                    self.assertEqual(node.keywords, [], place)
+                    for row in node.keywords:
+                        self.assertEqual((name, row.arg, getattr(row.value, "id", None)), ("sorted", "key", "len"), place)
                 if name in AT_ONCE:
                     parent = node.parent
                     at_once = isinstance(parent, (ast.For, ast.comprehension)) and parent.iter is node
@@ -232,11 +233,12 @@ class LanguageTest(unittest.TestCase):
         for place, node in self.each(ast.Name):
             if node.id in CALLED and isinstance(node.ctx, ast.Load):
                 parent = node.parent
-                if isinstance(parent, ast.Tuple):
+                if isinstance(parent, (ast.Tuple, ast.keyword)):
                     parent = parent.parent
                 self.assertIsInstance(parent, ast.Call, place)
                 is_kind = isinstance(parent.func, ast.Name) and parent.func.id == "isinstance"
-                self.assertTrue(parent.func is node or is_kind, place)
+                is_key = isinstance(node.parent, ast.keyword) and node.id == "len"
+                self.assertTrue(parent.func is node or is_kind or is_key, place)
 
     def test_strings(self):
         for place, node in self.each(ast.Constant):
@@ -251,6 +253,11 @@ class LanguageTest(unittest.TestCase):
             for at, char in enumerate(text):
                 if char == "\\":
                     self.assertIn(text[at + 1], 'n"\\', name)
+
+    def test_exponents(self):
+        for place, node in self.each(ast.BinOp):
+            if isinstance(node.op, ast.Pow):
+                self.assertIn(node.right.value, range(65), place)
 
     def test_is(self):
         for place, node in self.each(ast.Compare):
