@@ -1,12 +1,10 @@
 """Papers of calm: lots of posts that show, step by step, that a harm is never met."""
 
 from asneverbegun.errors import InvalidHarm
-from asneverbegun.events import is_harm
+from asneverbegun.events import CALM_HARMS, is_harm
 from asneverbegun.posts import PostForm, post_of, state_of
 from asneverbegun.trails import ALL_KINDS, Trails
 from asneverbegun.walker import Walker
-
-CALM_HARMS = ("again", "unlike", "loose", "astray")
 
 
 def calm_paper(system, harm):

@@ -4,6 +4,8 @@ from asneverbegun.basics import is_name, is_number_text, is_sequence
 from asneverbegun.errors import InvalidEvent
 
 HARMS = ("again", "unlike", "loose", "astray", "stale", "stuck", "left", "noticed")
+CALM_HARMS = ("again", "unlike", "loose", "astray")
+FIRST_HARMS = ("again", "unlike", "loose", "astray", "stale")
 
 
 def read_event(value):
@@ -31,6 +33,11 @@ def read_events(value):
             raise InvalidEvent(at)
         rows.append(row)
     return rows
+
+
+def event_text(kind, what):
+    """Returns the event with such a pair."""
+    return kind if what is None else f"{kind} {what}"
 
 
 def is_harm(value, words=HARMS):

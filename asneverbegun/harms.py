@@ -33,6 +33,12 @@ def story(system, harm):
     return trails.story(harm) if harm in trails.found else None
 
 
+def stories(system):
+    """Returns for each harm that happens a pair of the harm and some story of it."""
+    trails = _trails(system, ())
+    return tuple([(harm, trails.story(harm)) for harm in sorted(trails.found)])
+
+
 def meets(system, harm):
     """Returns the lot of the least lots of kinds of events that are enough for a harm to happen."""
     if not is_harm(harm):

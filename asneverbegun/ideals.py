@@ -2,7 +2,7 @@
 
 from asneverbegun.asks import ask_of
 from asneverbegun.errors import Refused
-from asneverbegun.events import read_events
+from asneverbegun.events import event_text, read_events
 from asneverbegun.reading import next_thing, stand_of
 from asneverbegun.views import views
 from asneverbegun.works import Work
@@ -90,7 +90,7 @@ class Follower:
     def do(self, kind, what):
         """Does an event."""
         self.work.do(kind, what)
-        self.told_events.append(kind if what is None else f"{kind} {what}")
+        self.told_events.append(event_text(kind, what))
 
     def ask_by(self, row):
         """Asks by an edition, or, for (None, ask), by one that asks just this; an open entry comes first."""

@@ -34,9 +34,7 @@ class System:
         """Returns the system with a text."""
         if not isinstance(text, str):
             raise InvalidText(0)
-        cells, tags, starts, street, deeds, editions = TextReader(text.split("\n")).parts()
-        world = World(cells, [Deed.read(line) for line in deeds])
-        return cls(world, [Plan(lines) for lines in editions], starts, street, tags)
+        return system_of(TextReader(text.split("\n"), 0).parts())
 
     def __eq__(self, other):
         return isinstance(other, System) and str(self) == str(other)
@@ -62,6 +60,13 @@ class System:
         for at, gear in zip(do_lines(plan), gears):
             plan = plan.with_gear(at, gear)
         return self.with_editions([*self.editions[:edition], plan, *self.editions[edition + 1:]])
+
+
+def system_of(parts):
+    """Returns the system that the parts of a text tell (see TextReader)."""
+    cells, tags, starts, street, deeds, editions = parts
+    world = World(cells, [Deed.read(line) for line in deeds])
+    return System(world, [Plan(lines) for lines in editions], starts, street, tags)
 
 
 def _are_editions(world, value):
@@ -105,10 +110,15 @@ def _listed(words):
 
 
 class TextReader:
-    """Reads the lines of the text of a system, one after the other."""
+    """Reads the lines of the text of a system, one after the other.
 
-    def __init__(self, lines):
+    They can be a part of a longer text: then errors tell the number in the whole of it, in which `first` is that of
+    the first line.
+    """
+
+    def __init__(self, lines, first):
         self.lines = lines
+        self.first_number = first
         self.at = 0
 
     def parts(self):
@@ -130,7 +140,7 @@ class TextReader:
         if self.at < len(self.lines):
             found = reader(self.lines[self.at])
         if found is None:
-            raise InvalidText(self.at)
+            raise InvalidText(self.first_number + self.at)
         self.at += 1
         return found
 

@@ -53,6 +53,14 @@ class Work:
             return self.held is not None
         return self.held is None and self.thing()[0] != "over"
 
+    def choices(self):
+        """Returns the pairs (kind, what) of all events that are possible."""
+        rows = [("next", None), ("write", None)]
+        rows.extend([("over", edition) for edition in range(len(self.of_system.editions))])
+        rows.extend([("late", number) for number in range(len(self.pending))])
+        rows.extend([("street", name) for name in self.of_system.street])
+        return [row for row in rows if self.can(row[0], row[1])]
+
     def do(self, kind, what):
         """Does an event that is possible; returns the lot of the harms that it meets."""
         found = []

@@ -1,5 +1,6 @@
 """The interface as the document lists it: names, parameters, defaults, and where they are defined."""
 
+import ast
 import importlib
 import inspect
 import unittest
@@ -61,6 +62,11 @@ FUNCTIONS = {
         "quiet_holds": "company, member, value",
     },
     "plainthings": {"plain_text": "value", "read_plain": "text"},
+    "claims": {"is_claim": "value", "claim_text": "claim", "read_claim": "text"},
+    "books": {"holds": "book, at", "failing": "book"},
+    "knowledge": {
+        "under": "one, other", "known": "book, name", "full_book": "name, system", "gaps": "book, name", "spare": "book",
+    },
 }
 CLASSES = {
     "worlds": {
@@ -83,6 +89,29 @@ CLASSES = {
     "stage": {"Played": {}},
     "times": {"Times": {"__init__": "self, lease, hold, way, entry, drift=(0, 1)", "__eq__": None}},
     "companies": {"Company": {"__init__": "self, members", "bare": "self", "keyed": "self", "__len__": None, "__eq__": None}},
+    "books": {
+        "Book": {
+            "__init__": "self, systems=(), claims=()", "of_name": "self, name", "with_system": "self, name, system",
+            "with_claim": "self, claim", "with_book": "self, other", "without": "self, at", "read": "text", "__len__": None,
+            "__eq__": None, "__str__": None,
+        },
+    },
+    "live": {
+        "Live": {
+            "__init__": "self, system, start, edition=0", "do": "self, event", "several": "self, events", "can": "self",
+            "undo": "self", "within": "self, work", "__len__": None, "system": None, "events": None, "played": None,
+        },
+    },
+    "desk": {"Desk": {"__init__": "self", "say": "self, command"}},
+}
+MODULES = (
+    "errors worlds plans systems stage harms calm gears mending opposites pivots peels editions ideals shown memories times "
+    "crowds companies quarrels plainthings claims books knowledge live desk"
+).split()
+ERRORS = {
+    "InvalidDeed": "word", "InvalidWorld": "word", "InvalidPlan": "word", "InvalidSystem": "word", "InvalidText": "at",
+    "InvalidScene": "", "InvalidEvent": "at", "InvalidLog": "at", "InvalidHarm": "", "InvalidTimes": "word",
+    "InvalidCompany": "word", "InvalidBook": "word", "InvalidCommand": "", "Refused": "at", "NoName": "name", "NoLine": "at",
 }
 
 
@@ -113,12 +142,32 @@ class InterfaceTest(unittest.TestCase):
                         self.assertEqual(parameters(getattr(made, method)), wanted, (word, method))
 
     def test_class_methods(self):
-        for name, word in (("worlds", "Deed"), ("plans", "Plan"), ("systems", "System")):
+        for name, word in (("worlds", "Deed"), ("plans", "Plan"), ("systems", "System"), ("books", "Book")):
             self.assertIsInstance(vars(getattr(module(name), word))["read"], classmethod)
+
+    def test_properties(self):
+        for word in ("system", "events", "played"):
+            self.assertIsInstance(vars(module("live").Live)[word], property)
+
+    def test_errors(self):
+        for word, wanted in ERRORS.items():
+            made = getattr(module("errors"), word)
+            self.assertEqual(made.__module__, "asneverbegun.errors")
+            self.assertEqual(parameters(made), wanted)
+            base = {"NoName": KeyError, "NoLine": IndexError}.get(word, module("errors").WorkError)
+            self.assertEqual(made.__bases__, (base,))
+        self.assertEqual(module("errors").WorkError.__bases__, (ValueError,))
+
+    def test_each_module_is_there(self):
+        for name in MODULES:
+            self.assertTrue(module(name).__doc__, name)
+        self.assertEqual(set(FUNCTIONS) | set(CLASSES) | {"errors"}, set(MODULES))
 
     def test_only_a_docstring(self):
         package = importlib.import_module("asneverbegun")
         self.assertTrue(package.__doc__)
+        with open(package.__file__, encoding="utf-8") as file:
+            self.assertEqual(len(ast.parse(file.read()).body), 1)
 
 
 if __name__ == "__main__":

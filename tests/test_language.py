@@ -13,7 +13,7 @@ CALLED = set(
     "len range enumerate zip min max sum abs sorted reversed int str bool list tuple dict set isinstance ord repr any all "
     "divmod".split()
 )
-NAMED = CALLED | {"ValueError", "KeyError", "IndexError", "TypeError", "super", "classmethod", "Exception"}
+NAMED = CALLED | {"ValueError", "KeyError", "IndexError", "TypeError", "super", "classmethod", "property", "Exception"}
 AT_ONCE = {"range", "enumerate", "zip", "reversed"}
 TAKERS = {"list", "tuple", "dict", "sorted", "sum", "any", "all", "enumerate", "zip", "min", "max"}
 METHODS = set(
@@ -87,7 +87,12 @@ class LanguageTest(unittest.TestCase):
             for node in tree.body:
                 if isinstance(node, ast.Assign):
                     self.assertEqual(len(node.targets), 1)
-                    ast.literal_eval(node.value)
+                    if isinstance(node.value, ast.Dict) and isinstance(node.value.values[0], ast.Name):
+                        # A table of functions that are defined above.
+                        self.assertTrue({row.id for row in node.value.values} <= set(bound), name)
+                        self.assertTrue(all(isinstance(row, ast.Constant) for row in node.value.keys), name)
+                    else:
+                        ast.literal_eval(node.value)
                     bound.append(node.targets[0].id)
                 elif isinstance(node, ast.ImportFrom):
                     bound += [alias.name for alias in node.names]
@@ -128,7 +133,7 @@ class LanguageTest(unittest.TestCase):
             inside = isinstance(node.parent, ast.ClassDef)
             self.assertTrue(inside or isinstance(node.parent, ast.Module), place)
             for row in node.decorator_list:
-                self.assertEqual((inside, row.id), (True, "classmethod"), place)
+                self.assertIn((inside, row.id), ((True, "classmethod"), (True, "property")), place)
             for default in node.args.defaults:
                 self.assertIsInstance(default, (ast.Constant, ast.Tuple, ast.Name), place)
         for place, node in self.each(ast.ClassDef):
@@ -183,11 +188,30 @@ class LanguageTest(unittest.TestCase):
                         if isinstance(inner, ast.Name) and isinstance(inner.ctx, ast.Store):
                             self.assertNotIn(inner.id, outer, "%s:%d" % (name, inner.lineno))
 
+    def properties(self):
+        return [node for _, node in self.each(ast.FunctionDef) if [row.id for row in node.decorator_list] == ["property"]]
+
+    def test_properties(self):
+        methods, attributes = self.members()
+        for node in self.properties():
+            self.assertNotIn(node.name, methods | attributes)
+            self.assertEqual(len(node.body), 2)
+            value = node.body[-1].value
+            self.assertEqual((value.value.id, value.attr), ("self", "_" + node.name))
+
+    def test_what_is_kept_at_last(self):
+        for place, node in self.each(ast.Try):
+            for row in node.finalbody:
+                self.assertIsInstance(row, ast.Assign, place)
+                for there in ast.walk(row):
+                    self.assertIsInstance(there, (ast.Assign, ast.Tuple, ast.Name, ast.Attribute, ast.Load, ast.Store), place)
+
     def members(self):
-        """The names of all methods and of all attributes that are assigned."""
+        """The names of all methods (but properties) and of all attributes that are assigned."""
         methods, attributes = set(), set()
+        properties = self.properties()
         for _, node in self.each(ast.ClassDef):
-            methods |= {row.name for row in node.body if isinstance(row, ast.FunctionDef)}
+            methods |= {row.name for row in node.body if isinstance(row, ast.FunctionDef) and row not in properties}
         for place, node in self.each(ast.Attribute):
             if isinstance(node.ctx, ast.Store):
                 self.assertIsInstance(node.value, ast.Name, place)
@@ -200,6 +224,7 @@ class LanguageTest(unittest.TestCase):
         values = set().union(*[dir(value) for value in ("", 0, [], {}, set(), b"")])
         self.assertEqual((methods | attributes) & values - DOUBLE, set())
         self.assertEqual((methods | attributes) & BARRED, set())
+        attributes |= {node.name for node in self.properties()}
         for place, node in self.each(ast.Attribute):
             is_called = isinstance(node.parent, ast.Call) and node.parent.func is node
             if isinstance(node.ctx, ast.Load):
@@ -226,7 +251,11 @@ class LanguageTest(unittest.TestCase):
                     parent = node.parent
                     self.assertIsInstance(parent, ast.Call, place)
                     self.assertIn(parent.func.id, ("len", "sorted"), place)
-            self.assertFalse(any(isinstance(row, ast.Starred) for row in node.args), place)
+            for row in node.args:
+                if isinstance(row, ast.Starred):
+                    self.assertIsInstance(row.value, ast.Name, place)
+                    self.assertIs(row, node.args[-1], place)
+                    self.assertNotIn(node.func.id, dir(builtins), place)
         self.assertIn("play", own)
 
     def test_builtins_are_called_and_not_passed_on(self):
@@ -272,7 +301,10 @@ class LanguageTest(unittest.TestCase):
             self.assertIn(node.exc.func.id, own, place)
         for place, node in self.each(ast.ExceptHandler):
             self.assertIn(node.type.id, own | {"KeyError"}, place)
-            self.assertIsNone(node.name, place)
+            if node.name is not None:
+                for row in ast.walk(node):
+                    if isinstance(row, ast.Name) and row.id == node.name:
+                        self.assertEqual(row.parent.attr, "at", place)
 
     def test_what_is_iterated_over_is_not_changed(self):
         for place, node in self.each(ast.For):
