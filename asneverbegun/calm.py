@@ -11,14 +11,16 @@ def calm_paper(system, harm):
     """Returns a calm paper for a harm, or None if there is none."""
     if not is_harm(harm, CALM_HARMS):
         raise InvalidHarm()
-    walker = Walker(system, False)
-    trails = Trails(walker, ALL_KINDS, (harm,))
-    if harm in trails.found:
-        return None
-    posts = {}
-    for state in trails.ways:
-        posts[post_of(walker.chart, state)] = True
-    return tuple(list(posts))
+    trails = Trails(Walker(system, False), ALL_KINDS, (harm,))
+    return None if harm in trails.found else _posts_of(trails)
+
+
+def calm_papers(system):
+    """Returns for each harm that has a calm paper a pair of the harm and one: all posts that come about."""
+    trails = Trails(Walker(system, False), ALL_KINDS)
+    calm = [harm for harm in CALM_HARMS if harm not in trails.found]
+    paper = _posts_of(trails) if len(calm) > 0 else ()
+    return tuple([(harm, paper) for harm in calm])
 
 
 def calm_holds(system, harm, value):
@@ -34,6 +36,14 @@ def calm_holds(system, harm, value):
     if not all([post in posts for post in starts]):
         return False
     return all([_holds_at(walker, harm, posts, post) for post in posts])
+
+
+def _posts_of(trails):
+    """Returns the tuple of the posts of all states that were found."""
+    posts = {}
+    for state in trails.ways:
+        posts[post_of(trails.walker.chart, state)] = True
+    return tuple(list(posts))
 
 
 def _holds_at(walker, harm, posts, post):

@@ -2,9 +2,9 @@
 
 from asneverbegun.basics import is_part
 from asneverbegun.books import Book, holds
-from asneverbegun.calm import calm_paper
+from asneverbegun.calm import calm_papers
 from asneverbegun.editions import reading_paper
-from asneverbegun.events import CALM_HARMS, FIRST_HARMS, HARMS
+from asneverbegun.events import FIRST_HARMS, HARMS
 from asneverbegun.harms import stories
 from asneverbegun.opposites import clean_paper
 from asneverbegun.plans import do_lines
@@ -39,7 +39,7 @@ def full_book(name, system):
         for at in do_lines(plan):
             claims.append(("clean", name, edition, at, clean_paper(system, edition, at)))
     if _has_both_tags(system):
-        claims.extend([("calm", name, harm, calm_paper(system, harm)) for harm in CALM_HARMS])
+        claims.extend([("calm", name, harm, paper) for harm, paper in calm_papers(system)])
     if len(system.editions) == 2:
         claims.append(("reads", name, reading_paper(system)))
     # A paper that there is not is None.

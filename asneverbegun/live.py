@@ -1,7 +1,7 @@
 """Live stages: a work goes on event by event, and what was done there can be taken back."""
 
-from asneverbegun.errors import InvalidEvent, InvalidScene, Refused
-from asneverbegun.events import event_text, read_event, read_events
+from asneverbegun.errors import InvalidScene, Refused
+from asneverbegun.events import event_text, read_events
 from asneverbegun.stage import play
 from asneverbegun.works import Work
 from asneverbegun.worlds import is_scene
@@ -40,8 +40,6 @@ class Live:
 
     def do(self, event):
         """Does an event; returns the lot of the harms that it meets."""
-        if read_event(event) is None:
-            raise InvalidEvent(len(self._events))
         self._take((event,))
         return self._harms_at(len(self._events) - 1)
 

@@ -177,6 +177,12 @@ class RulesTest(unittest.TestCase):
     def test_claims_of_others_tell_nothing(self):
         book = Book([("m", BARE), ("k", KEYED)], calm_claims("k", KEYED))
         self.assertEqual(dict(known(book, "m")), {"astray": "never", "stale": "never", "noticed": "never"})
+        other = made("m 2", "set: m to 1", "do set/do set/back")
+        book = Book([("r", ROUND), ("x", other)], calm_claims("r", ROUND) + [row[:1] + ("x",) + row[2:] for row in clean_claims("r", ROUND)])
+        self.assertEqual(dict(known(book, "r")), {harm: "never" for harm in FIVE})
+        # The papers hold for an equal system by the other name, and are nothing for this one all the same.
+        book = Book([("r", ROUND), ("x", ROUND.with_tags(["cut"]))], calm_claims("r", ROUND) + clean_claims("x", ROUND))
+        self.assertEqual((failing(book), dict(known(book, "r"))), ((), {harm: "never" for harm in FIVE}))
 
     def test_names(self):
         for value in any_values() + ["M", ("m",), "mm"]:

@@ -385,14 +385,15 @@ class QuietPaperTest(unittest.TestCase):
         self.assertIs(quiet_holds(swapped, 0, quiet_paper(swapped, 0) + rows), True)
 
     def test_forms(self):
-        there = company("do tell undo off/do clr undo clr else 2/back", "do none/cut k", starts=["2 0"])
+        there = company("do tell undo off ahead/do clr undo clr else 2/back", "do none/cut k", starts=["2 0"])
         paper = quiet_paper(there, 0)
         gone, over = ((-1, True, False, ()), None), ((-1, False, False, ()), None)
         self.assertIs(quiet_holds(there, 0, paper + (((0, 0), (0, 1), True, (gone, over)),)), True)
         stands = [(-2, True, False, ()), (0, True, False, ()), (4, False, False, ()), (0, False, True, ()), (0, 0, False, ()),
                   (True, False, False, ()), [-1, True, False, ()], (-1, True, False), None, (-1, True, False, []),
                   (-1, True, False, ((0, "off", "ok"),)), (-1, True, False, ((0, "off", "ok 3"),)),
-                  (-1, True, False, ((1, "off", "ok"),)), (-1, True, False, ((0, "clr", "ok 1"),))]
+                  (-1, True, False, ((1, "off", "ok"),)), (-1, True, False, ((0, "clr", "ok 1"),)),
+                  (2, True, True, ((0, "off", "ok 1"),))]
         helds = [((0, False, False, ()), "ok"), ((0, False, False, ()), "ok 3"), ((0, False, False, ()), "ok 1 1"),
                  ((0, False, False, ()), "yes"), ((0, False, False, ()), 0), ((0, False, False, ()), False),
                  ((0, False, False, ()), ""), ((0, False, False, ()), ["no"]), ((2, False, False, ()), "ok"),
